@@ -1,0 +1,1 @@
+"""Hearpurse: spending from nested accounts by gossip."""
