@@ -23,15 +23,23 @@ def load(start, top):
     return unittest.TestLoader().discover(start, pattern="test_*.py", top_level_dir=top)
 
 
+def load_shared():
+    """Load the tests of every folder under ../shared/tests, and none if it does not exist."""
+    suite = unittest.TestSuite()
+    for folder, _, files in sorted(os.walk(SHARED)):
+        # Loading a folder goes into the packages inside it, but into no other folders.
+        if folder == SHARED or "__init__.py" not in files:
+            suite.addTest(load(folder, folder))
+    return suite
+
+
 def main():
     sys.path.insert(0, ROOT)
     own = load(os.path.join(ROOT, "tests"), ROOT)
     if own.countTestCases() == 0:
         print("the project has no tests")
         return 1
-    shared = unittest.TestSuite()
-    if os.path.isdir(SHARED):
-        shared = load(SHARED, SHARED)
+    shared = load_shared()
     print(f"Python {sys.version.split()[0]}: {own.countTestCases()} tests of the project, ", end="")
     print(f"{shared.countTestCases()} tests under ../shared/tests", flush=True)
     runner = unittest.TextTestRunner(stream=sys.stdout, resultclass=CountingResult)
