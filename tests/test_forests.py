@@ -104,10 +104,11 @@ class TestRows(unittest.TestCase):
         self.refuse([("a", None), ("b", "b"), ("c", "a")])
 
     def test_a_row_that_is_no_tuple(self):
-        for row in (["a", None], ["b", "a"], "ab", {"a": 1, "b": 2}, None, 2, "a", True, []):
+        for row in (["a", None], ["b", "a"], "ab", "ba", {"a": 1, "b": 2}, None, 2, "a", True, []):
             with self.subTest(row=row):
                 self.refuse_in_every_place(row)
                 self.refuse([("a", None), row])
+                self.refuse([("b", None), row])
                 self.refuse([("y", None), ("x", "y"), row])
 
     def test_a_row_of_another_length(self):
