@@ -1,8 +1,14 @@
-"""What is a name of an account, and what is an amount of money."""
+"""What is an integer, a name of an account, and an amount of money."""
 
 LETTERS = "abcdefghijklmnopqrstuvwxyz"
 LONGEST = 8
 LARGEST = 10 ** 9
+
+
+def is_int(value):
+    """Tell whether the value is an integer."""
+    # Python counts True and False among the integers; here they are none.
+    return isinstance(value, int) and not isinstance(value, bool)
 
 
 def is_name(value):
@@ -16,7 +22,4 @@ def is_name(value):
 
 def is_amount(value):
     """Tell whether the value is an integer from 1 to 10 ** 9."""
-    # Python counts True and False among the integers; here they are none.
-    if isinstance(value, bool) or not isinstance(value, int):
-        return False
-    return 1 <= value <= LARGEST
+    return is_int(value) and 1 <= value <= LARGEST

@@ -1,4 +1,7 @@
-"""What several tests use: values of all kinds, and rows of forests."""
+"""What several tests use: values of all kinds, rows of forests, and what the document says of claims and balances.
+
+The functions that begin with "model" say it as plainly as the document does, whatever time it takes.
+"""
 
 import itertools
 
@@ -24,6 +27,8 @@ NO_NAMES = NO_STRINGS + [
     "", " ", "\n", "A", "Z", "1", "_", "-", "`", "{", "a ", " a", "a b", "a\n", "\na", "aB", "a1", "a-b",
     "abcdefghi", "abcdefghijklmnop", "abcdefgH", "account a", "a in b",
 ]
+
+NO_INTS = [value for value in NO_NAMES if isinstance(value, bool) or not isinstance(value, int)] + ["a", "10", "None"]
 
 NAMES = ["a", "bb", "purse", "account", "in", "zzzzzzzz", "g", "abcdefgh", "i"]
 
@@ -54,3 +59,89 @@ def all_rows(many):
     names = NAMES[:many]
     choices = [[None] + names[:at] for at in range(many)]
     return [list(zip(names, parents)) for parents in itertools.product(*choices)]
+
+
+def above(rows, name):
+    """Return what the ancestors of the account must be."""
+    parents = dict(rows)
+    found = []
+    while name is not None:
+        found.append(name)
+        name = parents[name]
+    return found
+
+
+def inside(rows, name):
+    """Return what the subtree of the account must be."""
+    return [inner for inner, _ in rows if name in above(rows, inner)]
+
+
+class Mixed:
+    """Numbers that look mixed, and are the same each time."""
+
+    def __init__(self, seed):
+        self.state = seed
+
+    def below(self, many):
+        self.state = (self.state * 6364136223846793005 + 1442695040888963407) % 2 ** 64
+        return (self.state >> 33) % many
+
+    def one_of(self, values):
+        return values[self.below(len(values))]
+
+
+FORESTS = [rows for many in range(1, 5) for rows in all_rows(many)] + SHAPES
+
+
+def cases(many, seed, most_claims=5, most=5):
+    """Yield so many triples (rows, claims, balances) of small forests and small numbers."""
+    mixed = Mixed(seed)
+    for _ in range(many):
+        rows = mixed.one_of(FORESTS)
+        names = [name for name, _ in rows]
+        claims = [(mixed.one_of(names), mixed.below(most + 1)) for _ in range(mixed.below(most_claims + 1))]
+        balances = {name: mixed.below(most + 1) for name in names if mixed.below(4) > 0}
+        yield rows, claims, balances
+
+
+def model_totals(rows, balances):
+    return {name: sum([balances.get(inner, 0) for inner in inside(rows, name)]) for name, _ in rows}
+
+
+def model_used(rows, claims, spent, name):
+    """Return what the claims that count at this account have spent, up to the last number of spent."""
+    return sum([number for (account, _), number in zip(claims, spent) if name in above(rows, account)])
+
+
+def model_overdrawn(rows, claims, spent, balances):
+    sums = model_totals(rows, balances)
+    for name, _ in rows:
+        if model_used(rows, claims, spent, name) > sums[name]:
+            return name
+    return None
+
+
+def model_tight(rows, claims, spent, balances, rank):
+    """Return the ancestors of the account of this rank that are tight at it."""
+    sums = model_totals(rows, balances)
+    ancestors = above(rows, claims[rank][0])
+    return [name for name in ancestors if model_used(rows, claims, spent[:rank + 1], name) == sums[name]]
+
+
+def model_entitlements(rows, claims, balances):
+    """Try every number from the claim downwards."""
+    found = []
+    for _, claim in claims:
+        number = claim
+        while model_overdrawn(rows, claims, found + [number], balances) is not None:
+            number -= 1
+        found.append(number)
+    return found
+
+
+def model_certificate(rows, claims, balances):
+    result = model_entitlements(rows, claims, balances)
+    return [
+        None if result[rank] == claim else model_tight(rows, claims, result, balances, rank)[0]
+        for rank, (_, claim) in enumerate(claims)
+    ]

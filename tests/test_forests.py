@@ -4,17 +4,7 @@ import unittest
 
 from hearpurse.errors import InvalidForest, UnknownAccount
 from hearpurse.forests import Forest
-from tests.samples import CHAIN, FLAT, MIXED, NAMES, NO_NAMES, NO_STRINGS, SHAPES, all_rows, nested
-
-
-def above(rows, name):
-    """Return what the ancestors of the account must be."""
-    parents = dict(rows)
-    found = []
-    while name is not None:
-        found.append(name)
-        name = parents[name]
-    return found
+from tests.samples import CHAIN, FLAT, MIXED, NAMES, NO_NAMES, NO_STRINGS, SHAPES, above, all_rows, inside, nested
 
 
 class TestInterface(unittest.TestCase):
@@ -214,8 +204,8 @@ class TestAncestorsAndSubtrees(unittest.TestCase):
     def check(self, rows):
         forest = Forest(rows)
         for name, _ in rows:
-            inside = [inner for inner, _ in rows if name in above(rows, inner)]
-            for found, expected in ((forest.ancestors(name), above(rows, name)), (forest.subtree(name), inside)):
+            pairs = ((forest.ancestors(name), above(rows, name)), (forest.subtree(name), inside(rows, name)))
+            for found, expected in pairs:
                 self.assertIs(type(found), list)
                 self.assertEqual(found, expected)
 

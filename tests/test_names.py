@@ -4,7 +4,7 @@ import unittest
 
 from hearpurse import names
 from hearpurse.names import is_amount, is_name
-from tests.samples import NO_NAMES, NO_STRINGS
+from tests.samples import NO_INTS, NO_NAMES, NO_STRINGS
 
 LETTERS = "abcdefghijklmnopqrstuvwxyz"
 CHARACTERS = "\n" + "".join([chr(code) for code in range(32, 127)])
@@ -91,10 +91,9 @@ class TestIsAmount(unittest.TestCase):
         self.assertIs(is_amount(False), False)
 
     def test_any_other_value(self):
-        for value in NO_NAMES + ["a", "10"]:
-            if not (isinstance(value, int) and not isinstance(value, bool)):
-                with self.subTest(value=value):
-                    self.assertIs(is_amount(value), False)
+        for value in NO_INTS:
+            with self.subTest(value=value):
+                self.assertIs(is_amount(value), False)
 
     def test_the_parts_of_a_value_do_not_count(self):
         for value in ([1], [1, 2], (1,), (1, 2), {1: 1}, {1: 2, 3: 4}):

@@ -1,0 +1,112 @@
+"""Facts: the rows of the roll, and what is known of deposits, releases, answers and withdrawals."""
+
+from hearpurse.errors import InvalidText
+from hearpurse.names import is_amount, is_int
+
+LAST_PLACE = 20
+LAST_MARK = 999
+
+# What stands behind the first word of a fact.
+PARTS = {
+    "spender": ("place", "account", "amount"),
+    "request": ("place", "account", "amount"),
+    "deposit": ("mark", "account", "amount"),
+    "release": ("place", "amount"),
+    "consent": ("place", "place"),
+    "refuse": ("place", "place"),
+    "withdrawn": ("place",),
+}
+
+ROWS = ("spender", "request")
+ANSWERS = ("consent", "refuse")
+
+DIGITS = "0123456789"
+MOST_DIGITS = 10
+
+
+def is_place(value):
+    """Tell whether the value is a place of the roll."""
+    return is_int(value) and 1 <= value <= LAST_PLACE
+
+
+def is_part(part, value, forest):
+    """Tell whether the value may stand where a fact has this part."""
+    if part == "account":
+        return value in forest.names
+    if part == "amount":
+        return is_amount(value)
+    if part == "mark":
+        return is_int(value) and 1 <= value <= LAST_MARK
+    return is_place(value)
+
+
+def is_fact(value, forest):
+    """Tell whether the value is a fact."""
+    if not isinstance(value, tuple) or len(value) == 0:
+        return False
+    kind = value[0]
+    if not isinstance(kind, str) or kind not in PARTS:
+        return False
+    parts = PARTS[kind]
+    if len(value) != len(parts) + 1:
+        return False
+    if not all([is_part(part, value[at], forest) for at, part in enumerate(parts, start=1)]):
+        return False
+    # A spender answers only the requests behind it.
+    return kind not in ANSWERS or value[2] < value[1]
+
+
+def supposed_rows(fact):
+    """Return the list of the pairs (kind, place) of the rows that a fact other than a row supposes."""
+    kind = fact[0]
+    if kind == "release":
+        return [("spender", fact[1])]
+    if kind == "withdrawn":
+        return [("request", fact[1])]
+    if kind in ANSWERS:
+        return [("request", fact[1]), ("spender", fact[2])]
+    return []
+
+
+def contradicts(row, fact):
+    """Tell whether the fact supposes a row of the other kind at the place of this row."""
+    return any([place == row[1] and kind != row[0] for kind, place in supposed_rows(fact)])
+
+
+def do_conflict(one, other):
+    """Tell whether the two facts of one forest conflict."""
+    if one == other:
+        return False
+    if one[0] in ROWS and other[0] in ROWS:
+        return one[1] == other[1]
+    if one[0] in ROWS:
+        return contradicts(one, other)
+    if other[0] in ROWS:
+        return contradicts(other, one)
+    if one[0] == "deposit" and other[0] == "deposit":
+        return one[1] == other[1]
+    if one[0] in ANSWERS and other[0] in ANSWERS:
+        return one[1:] == other[1:]
+    return False
+
+
+def fact_text(fact):
+    """Return the parts of a fact, separated by one space."""
+    return " ".join([str(part) for part in fact])
+
+
+def is_number(word):
+    """Tell whether the word is a number as a fact's text may have it: digits, and no leading zero."""
+    if len(word) < 1 or len(word) > MOST_DIGITS or word[0] == "0":
+        return False
+    return all([digit in DIGITS for digit in word])
+
+
+def parse_fact(text, forest):
+    """Return the fact that has this text."""
+    if not isinstance(text, str):
+        raise InvalidText(0)
+    fact = tuple([int(word) if is_number(word) else word for word in text.split(" ")])
+    if not is_fact(fact, forest):
+        raise InvalidText(0)
+    return fact
