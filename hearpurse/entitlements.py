@@ -80,7 +80,7 @@ def first_overdrawn(forest, claims, spent, balances):
 
 def grants(forest, claims, balances):
     """Return the entitlements, for balances of any size."""
-    left = totals_of(forest, balances)
+    left = dict(totals_of(forest, balances))
     found = []
     for account, claim in claims:
         above = forest.ancestors(account)

@@ -73,21 +73,27 @@ def contradicts(row, fact):
     return any([place == row[1] and kind != row[0] for kind, place in supposed_rows(fact)])
 
 
+def slot(fact):
+    """Return what only one of the facts of a view may have, or None if the fact leaves room for others."""
+    kind = fact[0]
+    if kind in ROWS:
+        return ("row", fact[1])
+    if kind == "deposit":
+        return ("deposit", fact[1])
+    if kind in ANSWERS:
+        return ("answer", fact[1], fact[2])
+    return None
+
+
 def do_conflict(one, other):
     """Tell whether the two facts of one forest conflict."""
     if one == other:
         return False
-    if one[0] in ROWS and other[0] in ROWS:
-        return one[1] == other[1]
+    if slot(one) is not None and slot(one) == slot(other):
+        return True
     if one[0] in ROWS:
         return contradicts(one, other)
-    if other[0] in ROWS:
-        return contradicts(other, one)
-    if one[0] == "deposit" and other[0] == "deposit":
-        return one[1] == other[1]
-    if one[0] in ANSWERS and other[0] in ANSWERS:
-        return one[1:] == other[1:]
-    return False
+    return other[0] in ROWS and contradicts(other, one)
 
 
 def fact_text(fact):

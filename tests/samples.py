@@ -32,6 +32,7 @@ NO_INTS = [value for value in NO_NAMES if isinstance(value, bool) or not isinsta
 
 NAMES = ["a", "bb", "purse", "account", "in", "zzzzzzzz", "g", "abcdefgh", "i"]
 
+ABC = [("a", None), ("b", "a"), ("c", "a")]
 FLAT = [(name, None) for name in NAMES]
 CHAIN = list(zip(NAMES, [None] + NAMES))
 
@@ -145,3 +146,37 @@ def model_certificate(rows, claims, balances):
         None if result[rank] == claim else model_tight(rows, claims, result, balances, rank)[0]
         for rank, (_, claim) in enumerate(claims)
     ]
+
+
+# Facts of a forest with accounts a and b: of each kind several, many of which conflict.
+PLACES = [1, 2, 3]
+ANSWERS = [(word, request, spender) for word in ("consent", "refuse") for request, spender in ((2, 1), (3, 1), (3, 2))]
+
+EVERY_FACT = (
+    [("spender", place, account, claim) for place in PLACES for account in "ab" for claim in (1, 2)]
+    + [("request", place, account, amount) for place in PLACES for account in "ab" for amount in (1, 2)]
+    + [("deposit", mark, account, amount) for mark in PLACES for account in "ab" for amount in (1, 2)]
+    + [("release", place, total) for place in PLACES for total in (1, 2)]
+    + ANSWERS
+    + [("withdrawn", place) for place in PLACES]
+)
+
+
+def is_against(one, other):
+    """Tell whether the two facts conflict, for two different facts in this order of their kinds."""
+    match one, other:
+        case ("spender" | "request", place, _, _), ("spender" | "request", beside, _, _):
+            return place == beside
+        case ("deposit", mark, _, _), ("deposit", beside, _, _):
+            return mark == beside
+        case ("consent", request, spender), ("refuse", beside, by):
+            return request == beside and spender == by
+        case ("release", place, _), ("request", beside, _, _):
+            return place == beside
+        case ("consent" | "refuse", request, _), ("spender", place, _, _):
+            return request == place
+        case ("consent" | "refuse", _, spender), ("request", place, _, _):
+            return spender == place
+        case ("withdrawn", request), ("spender", place, _, _):
+            return request == place
+    return False

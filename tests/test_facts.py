@@ -6,7 +6,7 @@ import unittest
 from hearpurse import facts
 from hearpurse.facts import do_conflict, is_fact
 from hearpurse.forests import Forest
-from tests.samples import CHAIN, NO_INTS, NO_NAMES, NO_STRINGS, nested
+from tests.samples import CHAIN, EVERY_FACT, NO_INTS, NO_NAMES, NO_STRINGS, is_against, nested
 
 ABC = [("a", None), ("b", "a"), ("c", "a")]
 LARGEST = 10 ** 9
@@ -155,39 +155,6 @@ class TestIsFact(unittest.TestCase):
         self.assertEqual([repr(NO_STRINGS), self.forest.text], [before, text])
 
 
-PLACES = [1, 2, 3]
-ANSWERS = [(word, request, spender) for word in ("consent", "refuse") for request, spender in ((2, 1), (3, 1), (3, 2))]
-
-EVERY = (
-    [("spender", place, account, claim) for place in PLACES for account in "ab" for claim in (1, 2)]
-    + [("request", place, account, amount) for place in PLACES for account in "ab" for amount in (1, 2)]
-    + [("deposit", mark, account, amount) for mark in PLACES for account in "ab" for amount in (1, 2)]
-    + [("release", place, total) for place in PLACES for total in (1, 2)]
-    + ANSWERS
-    + [("withdrawn", place) for place in PLACES]
-)
-
-
-def is_against(one, other):
-    """Tell whether the two facts conflict, for two different facts in this order of their kinds."""
-    match one, other:
-        case ("spender" | "request", place, _, _), ("spender" | "request", beside, _, _):
-            return place == beside
-        case ("deposit", mark, _, _), ("deposit", beside, _, _):
-            return mark == beside
-        case ("consent", request, spender), ("refuse", beside, by):
-            return request == beside and spender == by
-        case ("release", place, _), ("request", beside, _, _):
-            return place == beside
-        case ("consent" | "refuse", request, _), ("spender", place, _, _):
-            return request == place
-        case ("consent" | "refuse", _, spender), ("request", place, _, _):
-            return spender == place
-        case ("withdrawn", request), ("spender", place, _, _):
-            return request == place
-    return False
-
-
 class TestConflicts(unittest.TestCase):
     def judge(self, one, other, expected):
         with self.subTest(one=one, other=other):
@@ -198,15 +165,15 @@ class TestConflicts(unittest.TestCase):
     def test_every_two_facts_in_both_orders(self):
         forest = Forest([("a", None), ("b", None)])
         conflicts = 0
-        for one, other in itertools.product(EVERY, EVERY):
+        for one, other in itertools.product(EVERY_FACT, EVERY_FACT):
             expected = one != other and (is_against(one, other) or is_against(other, one))
             self.judge(one, other, expected)
             conflicts += expected
-        self.assertEqual([is_fact(fact, forest) for fact in EVERY], [True] * 51)
+        self.assertEqual([is_fact(fact, forest) for fact in EVERY_FACT], [True] * 51)
         self.assertGreater(conflicts, 200)
 
     def test_a_fact_with_itself(self):
-        for fact in EVERY + [fact for fact, _ in KINDS]:
+        for fact in EVERY_FACT + [fact for fact, _ in KINDS]:
             self.judge(fact, fact, False)
             self.judge(fact, tuple(list(fact)), False)
 
@@ -225,7 +192,7 @@ class TestConflicts(unittest.TestCase):
         self.judge(("deposit", 7, "a", 4), ("deposit", 8, "a", 4), False)
 
     def test_a_deposit_and_any_other_fact(self):
-        for one, other in itertools.product(EVERY, EVERY):
+        for one, other in itertools.product(EVERY_FACT, EVERY_FACT):
             if one[0] == "deposit" and other[0] != "deposit":
                 self.judge(one, other, False)
 
