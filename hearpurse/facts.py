@@ -101,9 +101,9 @@ def fact_text(fact):
     return " ".join([str(part) for part in fact])
 
 
-def is_number(word):
-    """Tell whether the word is a number as a fact's text may have it: digits, and no leading zero."""
-    if len(word) < 1 or len(word) > MOST_DIGITS or word[0] == "0":
+def is_number(word, most):
+    """Tell whether the word is a number from 1 on, of at most so many digits, without leading zeros."""
+    if len(word) < 1 or len(word) > most or word[0] == "0":
         return False
     return all([digit in DIGITS for digit in word])
 
@@ -112,7 +112,7 @@ def parse_fact(text, forest):
     """Return the fact that has this text."""
     if not isinstance(text, str):
         raise InvalidText(0)
-    fact = tuple([int(word) if is_number(word) else word for word in text.split(" ")])
+    fact = tuple([int(word) if is_number(word, MOST_DIGITS) else word for word in text.split(" ")])
     if not is_fact(fact, forest):
         raise InvalidText(0)
     return fact

@@ -119,7 +119,6 @@ class View:
 
     def has_refused(self, place):
         """Tell whether a refusal by the spender at this place is known."""
-        check_place(place)
         return any([("refuse", request, place) in self._notes.known for request in range(place + 1, LAST_PLACE + 1)])
 
     def is_spender(self, value):
@@ -138,7 +137,6 @@ class View:
 
     def spenders_to(self, place):
         """Return the list of the places up to this one at which spenders are known."""
-        check_place(place)
         return [each for each in range(1, place + 1) if self.is_spender(each)]
 
     def claim(self, place):

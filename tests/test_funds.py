@@ -58,6 +58,15 @@ class TestFunds(unittest.TestCase):
         self.judge(view, 1, b=10)
         self.judge(view, 3, b=6)
 
+    def test_a_request_at_the_last_place_and_at_the_first(self):
+        view = view_of(ABC, ("deposit", 1, "b", 10), ("request", 20, "b", 4), ("consent", 20, 1))
+        self.judge(view, 1, b=6)
+        self.judge(view, 2, b=10)
+        view.learn(("refuse", 20, 19))
+        self.judge(view, 1, b=10)
+        view = view_of(ABC, ("deposit", 1, "b", 10), ("request", 1, "b", 3))
+        self.assertEqual([view.funds(place)["b"] for place in (1, 2, 20)], [10, 7, 7])
+
     def test_barred_by_any_spender(self):
         for refusal in (("refuse", 5, 1), ("refuse", 5, 4)):
             view = view_of(ABC, ("deposit", 1, "b", 10), ("request", 5, "b", 4), ("consent", 5, 2), refusal)

@@ -2,12 +2,17 @@
 
 import unittest
 
+from hearpurse.audit import audit, books_of
 from hearpurse.entitlements import certificate, overdrawn, shows_entitlements, totals
 from hearpurse.errors import PurseError
-from hearpurse.facts import is_fact
+from hearpurse.explore import example, explore
+from hearpurse.facts import fact_text, is_fact, parse_fact
 from hearpurse.forests import Forest
 from hearpurse.funding import fund, is_plan
+from hearpurse.missing import missing
+from hearpurse.rules import RULES
 from hearpurse.spenders import Spender
+from hearpurse.worlds import World
 from tests.drawn import WITHOUT_REQUESTS, draw_action, draw_world, view_of
 from tests.samples import ABC, Mixed
 from tests.test_world_calls import pairs
@@ -15,6 +20,9 @@ from tests.test_world_errors import state_of
 
 # Worlds in which the claims are seldom met, so that a wrong spending shows.
 POOR = ["join"] * 4 + ["deposit"] * 2 + ["ask"] * 2 + ["send"] * 8 + ["tell"] * 6 + ["arrive"] * 14 + ["withdraw"] * 3
+
+# Worlds in which many messages are under way.
+SMALL = ["join"] * 2 + ["deposit"] * 4 + ["ask"] * 2 + ["send"] * 8 + ["tell"] * 2 + ["withdraw"]
 
 
 def is_own(fact, place):
@@ -144,6 +152,65 @@ class TestFactsDecide(WorldCase):
                     self.assertGreaterEqual(spender.spent, before)
                     entitlement = spender.view.entitlement(place)
                     self.assertEqual(spender.spent, 0 if entitlement is None else entitlement)
+
+
+class TestMissingFacts(WorldCase):
+    def test_a_minimal_set_brings_a_spender_as_far_as_knowing_all(self):
+        mixed = Mixed(811)
+        sets = 0
+        for _ in range(60):
+            world = draw_world(mixed, 30, words=WITHOUT_REQUESTS, most_facts=12)
+            for place, ideal in zip(world.nodes[1:], world.ideal):
+                # Without requests knowing all is to have spent the ideal.
+                for facts in missing(world, place) or []:
+                    spender = world.spender(place)
+                    self.assertLess(spender.spent, ideal)
+                    spender.learn(*facts)
+                    self.assertEqual(spender.spent, ideal)
+                    sets += 1
+        self.assertGreater(sets, 60)
+
+
+class TestSmallWorlds(WorldCase):
+    def full_links(self, world):
+        return [(node, to) for node in world.nodes for to in world.nodes if node != to and world.link(node, to)]
+
+    def test_no_reachable_state_has_an_overdrawn_account(self):
+        mixed = Mixed(812)
+        states = ends = 0
+        for turn in range(40):
+            world = draw_world(mixed, 18, words=SMALL, most_spenders=2, settles=30)
+            actions = [draw_action(mixed, world, SMALL, 2) for _ in range(turn % 4)]
+            while sum(len(world.link(node, to)) for node, to in self.full_links(world)) > 6:
+                world.do(("lose", *mixed.one_of(self.full_links(world)), 0))
+            found = explore(world, actions=actions, limit=20000)
+            self.assertIsNone(found["overdrawn"])
+            states += found["states"]
+            ends += found["ends"] > 1
+        self.assertGreater(states, 2000)
+        self.assertGreater(ends, 0)
+
+    def test_each_faulty_rule_overdraws_an_account(self):
+        for rule in RULES[1:]:
+            forest, actions = example(rule)
+            world = World(forest, rule=rule)
+            world.do_all(actions)
+            self.assertEqual(overdrawn(forest, world.claims, world.spent, world.balances), forest.names[0])
+
+
+class TestBooksAndTexts(WorldCase):
+    def test_the_auditor_finds_no_flaw(self):
+        mixed = Mixed(813)
+        for _ in range(40):
+            self.assertIsNone(audit(books_of(draw_world(mixed, 60))))
+
+    def test_texts_are_read_back(self):
+        mixed = Mixed(814)
+        for _ in range(20):
+            world = draw_world(mixed, 60)
+            self.assertEqual(Forest.parse(world.forest.text), world.forest)
+            for _, fact in world.made:
+                self.assertEqual(parse_fact(fact_text(fact), world.forest), fact)
 
 
 class TestStates(WorldCase):

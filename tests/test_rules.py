@@ -116,6 +116,11 @@ class TestFaultyRules(unittest.TestCase):
         calls = [[DEPOSIT, ("deposit", 2, "b", 6)] + seniors + [("refuse", 6, 5)]]
         self.judge(("spender", 3, "a", 20), calls, [[("spend", 6)]], poor=[[("spend", 11)]])
 
+    def test_a_refusal_of_the_last_request_and_of_the_next_one(self):
+        for request in (20, 2):
+            calls = [[DEPOSIT, ("spender", 1, "a", 8), ("request", 2, "b", 1), ("refuse", request, 1)]]
+            self.judge(("spender", 3, "a", 9), calls, [[("spend", 2)]], poor=[[("spend", 6)]], deaf=[[("spend", 9)]])
+
     def test_its_own_refusal_does_not_make_its_claim_nothing(self):
         calls = [[DEPOSIT], [("request", 2, "a", 7)], [("deposit", 2, "a", 1)]]
         self.judge(("spender", 1, "a", 4), calls, [[("spend", 4)], [("refuse", 2, 1)], []],

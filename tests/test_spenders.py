@@ -305,6 +305,13 @@ class TestTwin(unittest.TestCase):
             self.assertEqual(spender.learn(DEPOSIT), [("spend", 1)])
             self.assertEqual([spender.spent, twin.spent], [1, 3])
 
+    def test_a_twin_has_spent_as_much(self):
+        spender = Spender(Forest(ABC), ROW)
+        spender.learn(("deposit", 1, "a", 3))
+        twin = spender.twin()
+        self.assertEqual([twin.spent, twin.learn(("deposit", 2, "a", 3)), twin.spent, spender.spent],
+                         [3, [("spend", 1)], 4, 3])
+
     def test_a_twin_has_the_rule(self):
         for rule, expected in (("correct", []), ("gap", [("spend", 4)])):
             twin = Spender(Forest(ABC), ("spender", 2, "a", 4), rule=rule).twin().twin()
