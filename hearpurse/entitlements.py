@@ -56,7 +56,7 @@ def totals_of(forest, balances):
     found = {name: 0 for name in forest.names}
     for account, balance in balances.items():
         for name in forest.ancestors(account):
-            found[name] += balance
+            found[name] = found[name] + balance
     return found
 
 
@@ -86,7 +86,7 @@ def grants(forest, claims, balances):
         above = forest.ancestors(account)
         granted = min([claim] + [left[name] for name in above])
         for name in above:
-            left[name] -= granted
+            left[name] = left[name] - granted
         found.append(granted)
     return found
 

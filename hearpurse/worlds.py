@@ -319,11 +319,11 @@ class World:
         """A dict of the deposits of each account, less the amounts withdrawn."""
         found = {name: 0 for name in self._forest.names}
         for fact in self._scene.made_of("deposit"):
-            found[fact[2]] += fact[3]
+            found[fact[2]] = found[fact[2]] + fact[3]
         requests = {row[1]: row for row in self._scene.made_of("request")}
         for fact in self._scene.made_of("withdrawn"):
             row = requests[fact[1]]
-            found[row[2]] -= row[3]
+            found[row[2]] = found[row[2]] - row[3]
         return found
 
     @property

@@ -160,6 +160,12 @@ class TestMoney(unittest.TestCase):
         self.assertEqual(world.balances, {"a": 3, "b": 0, "c": 0})
         self.assertEqual([world.made[-1], world.spent], [(0, ("withdrawn", 3)), [3, 0, 0]])
 
+    def test_balances_sum_up_all_deposits_and_withdrawals_of_an_account(self):
+        world = world_of(("deposit", 0, "a", 5), ("deposit", 0, "b", 7), ("deposit", 0, "a", 4), ("ask", "a", 2),
+                         ("ask", "a", 3), ("ask", "b", 1), ("withdraw", 1), ("withdraw", 3), ("withdraw", 2),
+                         ("join", "a", 9), ("join", "b", 2))
+        self.assertEqual([world.balances, world.ideal], [{"a": 4, "b": 6, "c": 0}, [9, 1]])
+
     def test_answers_are_made(self):
         world = world_of(("join", "a", 3), ("join", "a", 9), ("deposit", 0, "a", 5), ("ask", "a", 3), ("ask", "a", 2))
         world.do(("tell", 0, 1, (("deposit", 1, "a", 5),)))
